@@ -1,0 +1,1 @@
+"""Pastdesk: desks whose past may be rewritten."""
