@@ -115,3 +115,214 @@ def without(book, at):
 
 def with_deed(book, at, deed):
     return sorted(without(book, at) + [(at, deed)])
+
+
+class PlainSums:
+    """The desk of sums, done deed after deed; a row is a list of (at, deed)."""
+
+    def numbers(self, row):
+        """The numbers that have stood, the first 0 ahead of those behind each deed."""
+        found = [0]
+        for at, deed in row:
+            found.append(found[-1] + (deed[1] if deed[0] == "add" else 0))
+        return found
+
+    def total(self, row):
+        found = self.numbers(row)
+        return (found[-1], min(found), max(found))
+
+    def can(self, row):
+        return all(number >= 0 for number in self.numbers(row))
+
+    def answer(self, row, deed):
+        found = self.numbers(row)
+        if deed[0] == "many":
+            return found[-1]
+        if deed[0] == "peak":
+            return max(found)
+        times = [at for (at, done), number in zip(row, found[1:]) if number >= deed[1]]
+        return times[0] if times else None
+
+    def source(self, row, deed):
+        return self.answer(row, deed) if deed[0] == "reach" else None
+
+    def stand(self, row):
+        return self.numbers(row)[-1:]
+
+
+class PlainRow:
+    """What a pile and a line have in common, done deed after deed."""
+
+    def done(self, row):
+        """The puts (x, at) that stand, from the bottom or front on, and how many takes found nothing."""
+        puts = []
+        lack = 0
+        for at, deed in row:
+            if deed[0] == "put":
+                puts.append((deed[1], at))
+            elif deed[0] == "take" and puts:
+                puts.pop(self.taken)
+            elif deed[0] == "take":
+                lack = lack + 1
+        return puts, lack
+
+    def can(self, row):
+        return self.done(row)[1] == 0
+
+    def wanted(self, row, deed):
+        puts = list(self.done(row)[0])
+        above = deed[1] if deed[0] == "look" else 0
+        while puts and above > 0:
+            puts.pop(self.taken)
+            above = above - 1
+        return puts[self.taken] if puts else (None, None)
+
+    def answer(self, row, deed):
+        return len(self.done(row)[0]) if deed[0] == "many" else self.wanted(row, deed)[0]
+
+    def source(self, row, deed):
+        return None if deed[0] == "many" else self.wanted(row, deed)[1]
+
+    def stand(self, row):
+        return [x for x, at in self.done(row)[0]]
+
+
+class PlainPile(PlainRow):
+    taken = -1
+
+    def total(self, row):
+        puts, lack = self.done(row)
+        return (lack, len(puts))
+
+
+class PlainLine(PlainRow):
+    taken = 0
+
+    def total(self, row):
+        words = [deed[0] for at, deed in row]
+        return (self.done(row)[1], words.count("put"), words.count("take"))
+
+
+WORDS = (
+    "put", "take", "look", "many", "add", "peak", "reach", "set", "drop", "", "Put", "TAKE", "adds", " many", "look 1",
+)
+
+BEHIND = (
+    (), (0,), (1,), (2,), (-1,), (-7,), (10 ** 30,), (-(10 ** 30),), (2 ** 30,), (True,), (False,), (None,), ("",),
+    ("1",), ("ink",), (1, 2), (0, 0), (1, None), (None, 1), (1, "ink"), ("ink", 1), ("ink", True), (5, 6, 7),
+)
+
+NO_WORD = (
+    (), (None,), (True,), (False,), (0,), (1,), (-5,), (None, 1), (True, 1), (1, 1), (0, "put"), (1, "take"),
+    (None, "many"), (None, None), (1, "add", 1), (10 ** 30,),
+)
+
+
+def every_row(deeds_at, most):
+    """Each row of up to so many deeds; deeds_at tells the deeds that may stand in a place."""
+    rows = [[]]
+    found = [[]]
+    for place in range(most):
+        rows = [row + [deed] for row in rows for deed in deeds_at(place)]
+        found = found + rows
+    return found
+
+
+def at_times(deeds, times):
+    return list(zip(times, deeds))
+
+
+def every_parting(row):
+    """Each way to part a row into runs of one deed or more."""
+    if len(row) < 2:
+        return [[row] if row else []]
+    found = []
+    for size in range(1, len(row) + 1):
+        rests = every_parting(row[size:])
+        found = found + [[row[:size]] + rest for rest in rests]
+    return found
+
+
+def some_partings(row):
+    """The row deed by deed, whole, by runs of two and of five, and by runs that grow."""
+    sizes = ([1] * len(row), [max(1, len(row))], [2] * len(row), [5] * len(row), list(range(1, len(row) + 1)))
+    found = []
+    for many in sizes:
+        rest = row
+        parting = []
+        for size in many:
+            parting = parting + ([rest[:size]] if rest else [])
+            rest = rest[size:]
+        found.append(parting)
+    return found
+
+
+class KindChecks:
+    """Checks of a kind against its plain replay, for test cases that have both as self.kind and self.plain."""
+
+    def check_known(self, known_behind):
+        """known_behind: for each word of the kind, whether what stands behind it makes a deed."""
+        for word in WORDS:
+            for behind in BEHIND:
+                known = word in known_behind and known_behind[word](behind)
+                with self.subTest(deed=(word,) + behind):
+                    self.assertIs(self.kind.knows((word,) + behind), known)
+        for deed in NO_WORD:
+            with self.subTest(deed=deed):
+                self.assertIs(self.kind.knows(deed), False)
+
+    def check_asked(self, asked, others):
+        for deed in asked:
+            with self.subTest(deed=deed):
+                self.assertIs(self.kind.knows(deed), True)
+                self.assertIs(self.kind.asked(deed), True)
+        for deed in others:
+            with self.subTest(deed=deed):
+                self.assertIs(self.kind.knows(deed), True)
+                self.assertIs(self.kind.asked(deed), False)
+
+    def check_totals(self, row):
+        """The total of a row, joined deed by deed and from any two and three parts, whatever the brackets."""
+        told = self.plain.total(row)
+        joined = self.kind.nothing()
+        for at, deed in row:
+            joined = self.kind.joined(joined, self.kind.lone(at, deed))
+        self.assertEqual(joined, told, row)
+        self.assertIs(self.kind.fits(told), self.plain.can(row), row)
+        for first in range(len(row) + 1):
+            for second in range(first, len(row) + 1):
+                one = self.plain.total(row[:first])
+                two = self.plain.total(row[first:second])
+                three = self.plain.total(row[second:])
+                left = self.kind.joined(self.kind.joined(one, two), three)
+                right = self.kind.joined(one, self.kind.joined(two, three))
+                self.assertEqual((left, right), (told, told), (row, first, second))
+
+    def check_knots(self, knots, row, asks):
+        """What is told of a list of knots that has the deeds of the row."""
+        kept = list(knots)
+        for deed in asks:
+            told = (self.kind.answer(knots, deed), self.kind.source(knots, deed))
+            self.assertEqual(told, (self.plain.answer(row, deed), self.plain.source(row, deed)), (kept, deed))
+        told = self.kind.stand(knots)
+        self.assertIs(type(told), list)
+        self.assertEqual(told, self.plain.stand(row), kept)
+        self.assertEqual(knots, kept)
+
+    def check_row(self, row, partings, asks):
+        for parting in partings:
+            self.check_knots([plain_tree(part, self.plain.total) for part in parting], row, asks)
+
+    def check_own_stand(self, knots):
+        first = self.kind.stand(knots)
+        kept = list(first)
+        second = self.kind.stand(knots)
+        self.assertIsNot(first, second)
+        first.reverse()
+        first.append("more")
+        self.assertEqual(second, kept)
+        self.assertEqual(self.kind.stand(knots), kept)
+        first.clear()
+        second.append(5)
+        self.assertEqual(self.kind.stand(knots), kept)
+        self.assertEqual(first, [])
