@@ -1,4 +1,4 @@
-"""What piles and lines have in common: their deeds, and what is told of a number by the knot of its put."""
+"""What piles, lines and bags have in common: their deeds, and what is told of a number by the knot of its put."""
 
 from pastdesk.kinds import is_numbered
 

@@ -1,5 +1,12 @@
 """What the tests hold the program against: books, and the plainest way to each answer."""
 
+from pastdesk.bags import Bag
+from pastdesk.knots import put_in
+from pastdesk.lines import Line
+from pastdesk.names import Names
+from pastdesk.piles import Pile
+from pastdesk.sums import Sums
+
 END = 2 ** 30
 
 POWERS = [2 ** power for power in range(30)]
@@ -77,6 +84,14 @@ def plain_tree(book, total):
     return (low, size, total(book), plain_tree(left, total), plain_tree(right, total))
 
 
+def grown(kind, row):
+    """The tree that comes of the deeds of a row, put in one after another."""
+    tree = None
+    for at, deed in row:
+        tree = put_in(kind, tree, at, deed)
+    return tree
+
+
 def knots_of(tree):
     """The knots of a tree, a knot ahead of those within it, the left ones ahead of the right ones."""
     if tree is None:
@@ -151,31 +166,32 @@ class PlainSums:
 
 
 class PlainRow:
-    """What a pile and a line have in common, done deed after deed."""
+    """What a pile, a line and a bag have in common, done deed after deed."""
 
     def done(self, row):
-        """The puts (x, at) that stand, from the bottom or front on, and how many takes found nothing."""
+        """The puts (x, at) that stand, in the order of times, how many takes found nothing, and the puts taken."""
         puts = []
         lack = 0
+        gone = []
         for at, deed in row:
             if deed[0] == "put":
                 puts.append((deed[1], at))
             elif deed[0] == "take" and puts:
-                puts.pop(self.taken)
+                gone.append(puts.pop(self.first(puts)))
             elif deed[0] == "take":
                 lack = lack + 1
-        return puts, lack
+        return puts, lack, gone
 
     def can(self, row):
         return self.done(row)[1] == 0
 
     def wanted(self, row, deed):
-        puts = list(self.done(row)[0])
+        puts = self.done(row)[0]
         above = deed[1] if deed[0] == "look" else 0
         while puts and above > 0:
-            puts.pop(self.taken)
+            puts.pop(self.first(puts))
             above = above - 1
-        return puts[self.taken] if puts else (None, None)
+        return puts[self.first(puts)] if puts else (None, None)
 
     def answer(self, row, deed):
         return len(self.done(row)[0]) if deed[0] == "many" else self.wanted(row, deed)[0]
@@ -188,19 +204,152 @@ class PlainRow:
 
 
 class PlainPile(PlainRow):
-    taken = -1
+    def first(self, puts):
+        return len(puts) - 1
 
     def total(self, row):
-        puts, lack = self.done(row)
+        puts, lack, gone = self.done(row)
         return (lack, len(puts))
 
 
 class PlainLine(PlainRow):
-    taken = 0
+    def first(self, puts):
+        return 0
 
     def total(self, row):
         words = [deed[0] for at, deed in row]
         return (self.done(row)[1], words.count("put"), words.count("take"))
+
+
+class PlainBag(PlainRow):
+    def first(self, puts):
+        numbers = [x for x, at in puts]
+        return numbers.index(min(numbers))
+
+    def total(self, row):
+        puts, lack, gone = self.done(row)
+        return (lack, tuple(sorted(gone)), tuple(sorted(puts)))
+
+    def stand(self, row):
+        return sorted(PlainRow.stand(self, row))
+
+
+class PlainNames:
+    """The desk of names, done deed after deed."""
+
+    def done(self, row):
+        """What the names stand for, as {name: (x, at)}, and how many drops found nothing."""
+        stands = {}
+        lack = 0
+        for at, deed in row:
+            if deed[0] == "set":
+                stands[deed[1]] = (deed[2], at)
+            elif deed[0] == "drop":
+                lack = lack + (0 if deed[1] in stands else 1)
+                stands.pop(deed[1], None)
+        return stands, lack
+
+    def total(self, row):
+        stands, lack = self.done(row)
+        borne = [deed for at, deed in row if deed[0] in ("set", "drop")]
+        entries = []
+        for name in sorted({deed[1] for deed in borne}):
+            wants = [deed[0] for deed in borne if deed[1] == name][0] == "drop"
+            entries.append((name, wants, stands.get(name)))
+        return (lack, tuple(entries))
+
+    def can(self, row):
+        return self.done(row)[1] == 0
+
+    def answer(self, row, deed):
+        stands = self.done(row)[0]
+        return len(stands) if deed[0] == "many" else stands.get(deed[1], (None, None))[0]
+
+    def source(self, row, deed):
+        return None if deed[0] == "many" else self.done(row)[0].get(deed[1], (None, None))[1]
+
+    def stand(self, row):
+        stands = self.done(row)[0]
+        return [(name, stands[name][0]) for name in sorted(stands)]
+
+
+KINDS = {"sums": Sums(), "pile": Pile(), "line": Line(), "bag": Bag(), "names": Names()}
+
+PLAIN = {"sums": PlainSums(), "pile": PlainPile(), "line": PlainLine(), "bag": PlainBag(), "names": PlainNames()}
+
+
+def is_asked(deed):
+    return deed[0] not in ("add", "put", "set")
+
+
+def plain_failing(plain, row):
+    for many in range(len(row)):
+        if not plain.can(row[:many + 1]):
+            return row[many][0]
+    return None
+
+
+def plain_answers(plain, row):
+    return [(at, plain.answer(row[:many], deed)) for many, (at, deed) in enumerate(row) if is_asked(deed)]
+
+
+def plain_turned(plain, old, new):
+    before = dict(plain_answers(plain, old))
+    behind = dict(plain_answers(plain, new))
+    both = [at for at, deed in old if (at, deed) in new and is_asked(deed)]
+    return [(at, before[at], behind[at]) for at in both if before[at] != behind[at]]
+
+
+def long_sums(times):
+    """Adds that rise and fall, below 0 as well, with asked deeds between."""
+    deeds = []
+    for place in range(len(times)):
+        number = place * place * 37 % 41 - 19
+        deeds.append((("add", number), ("add", number + 3), ("peak",), ("add", -number), ("reach", 3))[place % 5])
+    return at_times(deeds, times)
+
+
+def long_numbers(times, puts=4):
+    """A row in which about so many of seven deeds are puts, and in which takes find nothing now and then."""
+    deeds = []
+    for place in range(len(times)):
+        turn = place * place * 37 % 41 % 7
+        deeds.append(("put", turn * 5 - place) if turn < puts else (("take",), ("look", turn), ("many",))[turn % 3])
+    return at_times(deeds, times)
+
+
+NAMES = ("a", "ink", "b", "abcdefghijkl", "zzzzzzzzzzzz", "in", "z")
+
+
+def long_names(times, sets=4):
+    """A row in which about so many of seven deeds are sets, and in which drops find nothing now and then."""
+    deeds = []
+    for place in range(len(times)):
+        turn = place * place * 37 % 41 % 7
+        name = NAMES[place * place * 29 % 31 % 7]
+        others = (("drop", name), ("look", name), ("many",))
+        deeds.append(("set", name, turn * 5 - place) if turn < sets else others[turn % 3])
+    return at_times(deeds, times)
+
+
+LONG = {"sums": long_sums, "pile": long_numbers, "line": long_numbers, "bag": long_numbers, "names": long_names}
+
+# For each kind a deed that others hang on, one that may be such as can't be done, and two asked ones.
+SMALL = {
+    "sums": (("add", 2), ("add", -1), ("reach", 1), ("many",)),
+    "pile": (("put", 2), ("put", 1), ("take",), ("look", 0)),
+    "line": (("put", 2), ("put", 1), ("take",), ("look", 0)),
+    "bag": (("put", 2), ("put", 1), ("take",), ("look", 0)),
+    "names": (("set", "a", 1), ("set", "a", 2), ("drop", "a"), ("look", "a")),
+}
+
+
+def every_book(deeds, times):
+    """Each book that has, at each of the times, one of the deeds or none."""
+    books = [[]]
+    for at in times:
+        books = [book + more for book in books for more in [[]] + [[(at, deed)] for deed in deeds]]
+    return books
 
 
 WORDS = (
@@ -210,6 +359,10 @@ WORDS = (
 BEHIND = (
     (), (0,), (1,), (2,), (-1,), (-7,), (10 ** 30,), (-(10 ** 30),), (2 ** 30,), (True,), (False,), (None,), ("",),
     ("1",), ("ink",), (1, 2), (0, 0), (1, None), (None, 1), (1, "ink"), ("ink", 1), ("ink", True), (5, 6, 7),
+    ("a",), ("z",), ("abcdefghijkl",), ("abcdefghijklm",), ("Ink",), ("inK",), ("in k",), (" ink",), ("ink1",), ("`",),
+    ("in{",), ("ink", 0), ("ink", -7), ("ink", 10 ** 30), ("ink", False), ("ink", None), ("ink", "1"), ("ink", "ink"),
+    ("", 1), ("Ink", 1), ("abcdefghijklm", 1), ("abcdefghijkl", 1), (True, 1), (True, "ink"), (None, "ink"),
+    ("ink", 1, 2), ("ink", 1, "ink"),
 )
 
 NO_WORD = (

@@ -1,23 +1,17 @@
 import unittest
 
 from pastdesk.books import ahead
-from pastdesk.knots import leaf, put_in
+from pastdesk.knots import leaf
 from pastdesk.lines import Line
+from plainly import grown
 
 KIND = Line()
-
-
-def grown(row):
-    tree = None
-    for at, deed in row:
-        tree = put_in(KIND, tree, at, deed)
-    return tree
 
 
 class LineToldOut(unittest.TestCase):
     def setUp(self):
         # The take at 6 has 5, the one at 30 has 4.
-        self.tree = grown([
+        self.tree = grown(KIND, [
             (1, ("put", 5)), (2, ("put", 4)), (5, ("put", 7)), (6, ("take",)),
             (10, ("put", 9)), (12, ("look", 1)), (20, ("put", 8)), (30, ("take",)), (40, ("put", 4)),
         ])

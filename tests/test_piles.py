@@ -1,23 +1,17 @@
 import unittest
 
 from pastdesk.books import ahead
-from pastdesk.knots import leaf, put_in
+from pastdesk.knots import leaf
 from pastdesk.piles import Pile
+from plainly import grown
 
 KIND = Pile()
-
-
-def grown(row):
-    tree = None
-    for at, deed in row:
-        tree = put_in(KIND, tree, at, deed)
-    return tree
 
 
 class PileToldOut(unittest.TestCase):
     def setUp(self):
         # 5 4; the take at 6 has 7; 9 8 above; the take at 30 has 8.
-        self.tree = grown([
+        self.tree = grown(KIND, [
             (1, ("put", 5)), (2, ("put", 4)), (5, ("put", 7)), (6, ("take",)),
             (10, ("put", 9)), (12, ("look", 1)), (20, ("put", 8)), (30, ("take",)), (40, ("put", 4)),
         ])

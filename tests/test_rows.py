@@ -1,15 +1,16 @@
-"""What is alike of piles and lines, tried on both against the plain replay of each."""
+"""What is alike of piles, lines and bags, tried on each against its plain replay."""
 
 import unittest
 
+from pastdesk.bags import Bag
 from pastdesk.books import ahead
 from pastdesk.kinds import Kind
-from pastdesk.knots import leaf, put_in
+from pastdesk.knots import leaf
 from pastdesk.lines import Line
 from pastdesk.piles import Pile
 from plainly import (
-    END, KindChecks, PlainLine, PlainPile, TIMES, at_times, ends_about, every_parting, every_row, mixed, plain_tree,
-    some_partings,
+    END, KindChecks, PLAIN, TIMES, at_times, ends_about, every_parting, every_row, grown, long_numbers, mixed,
+    plain_tree, some_partings,
 )
 
 BIG = 10 ** 29 + 7
@@ -18,25 +19,20 @@ SPREAD = [0, 3, 4, 9, 700, END // 2, END - 2, END - 1]
 NEAR = list(range(END // 2 - 4, END // 2 + 4))
 
 
-def small_deeds(place):
+def rising_deeds(place):
     # The number tells the place of the put, but for the last ones, which are alike.
     return (("put", min(place, 3) - 1), ("take",), ("look", place))
 
 
+def any_deeds(place):
+    return (("put", 1), ("put", -1), ("take",))
+
+
 def puts_and_takes(place):
-    return (("put", BIG - place), ("take",))
+    return (("put", BIG - place * 5 % 8), ("take",))
 
 
-def long_row(times, puts):
-    """A row in which about so many of seven deeds are puts, and in which takes find nothing now and then."""
-    deeds = []
-    for place in range(len(times)):
-        turn = place * place * 37 % 41 % 7
-        deeds.append(("put", turn * 5 - place) if turn < puts else (("take",), ("look", turn), ("many",))[turn % 3])
-    return at_times(deeds, times)
-
-
-class Both(KindChecks):
+class Alike(KindChecks):
     def test_what_it_knows(self):
         self.check_known({
             "put": lambda behind: len(behind) == 1 and type(behind[0]) is int,
@@ -66,7 +62,7 @@ class Both(KindChecks):
                     self.assertIs(self.kind.fits(total), deed != ("take",))
 
     def test_totals_of_rows_whatever_the_brackets(self):
-        for deeds in every_row(small_deeds, 6):
+        for deeds in every_row(self.deeds, 6):
             self.check_totals(at_times(deeds, SPREAD))
 
     def test_totals_of_longer_rows(self):
@@ -76,10 +72,8 @@ class Both(KindChecks):
     def test_trees_of_this_kind(self):
         for times in TIMES.values():
             for puts in (2, 4, 6):
-                row = long_row(times, puts)
-                tree = None
-                for at, deed in mixed(row):
-                    tree = put_in(self.kind, tree, at, deed)
+                row = long_numbers(times, puts)
+                tree = grown(self.kind, mixed(row))
                 self.assertEqual(tree, plain_tree(row, self.plain.total))
 
     def test_no_deeds_at_all(self):
@@ -90,12 +84,12 @@ class Both(KindChecks):
         self.check_knots([], [], ASKS)
 
     def test_small_rows_parted_every_way(self):
-        for deeds in every_row(small_deeds, 5):
+        for deeds in every_row(self.deeds, 5):
             row = at_times(deeds, SPREAD)
             self.check_row(row, every_parting(row), ASKS)
 
     def test_small_rows_at_neighbouring_times(self):
-        for deeds in every_row(small_deeds, 5):
+        for deeds in every_row(self.deeds, 5):
             row = at_times(deeds, NEAR)
             self.check_row(row, some_partings(row), ASKS)
 
@@ -108,7 +102,7 @@ class Both(KindChecks):
     def test_long_rows(self):
         for times in TIMES.values():
             for puts in (2, 4, 6):
-                row = long_row(times, puts)
+                row = long_numbers(times, puts)
                 stands = len(self.plain.stand(row))
                 edges = (stands // 3, stands // 2, stands - 1, stands, stands + 1)
                 asks = ASKS + [("look", k) for k in edges if k >= 0]
@@ -117,7 +111,7 @@ class Both(KindChecks):
     def test_what_a_tree_has_ahead(self):
         for name in ("powers of two", "a run with a gap", "three hundred far apart"):
             for puts in (3, 5):
-                row = long_row(TIMES[name], puts)
+                row = long_numbers(TIMES[name], puts)
                 tree = plain_tree(row, self.plain.total)
                 for end in ends_about(TIMES[name] if len(row) < 50 else TIMES[name][::9]):
                     done = [entry for entry in row if entry[0] < end]
@@ -131,7 +125,7 @@ class Both(KindChecks):
         self.assertEqual(self.kind.answer(knots[:1], ("take",)), 8)
 
     def test_a_list_told_is_the_askers_own(self):
-        row = long_row(TIMES["a run"], 5)
+        row = long_numbers(TIMES["a run"], 5)
         for parting in [[]] + some_partings(row):
             self.check_own_stand([plain_tree(part, self.plain.total) for part in parting])
 
@@ -148,14 +142,22 @@ class Both(KindChecks):
         self.assertEqual(self.kind.stand(knots=[]), [])
 
 
-class OnPiles(Both, unittest.TestCase):
+class OnPiles(Alike, unittest.TestCase):
     kind = Pile()
-    plain = PlainPile()
+    plain = PLAIN["pile"]
+    deeds = staticmethod(rising_deeds)
 
 
-class InLines(Both, unittest.TestCase):
+class InLines(Alike, unittest.TestCase):
     kind = Line()
-    plain = PlainLine()
+    plain = PLAIN["line"]
+    deeds = staticmethod(rising_deeds)
+
+
+class InBags(Alike, unittest.TestCase):
+    kind = Bag()
+    plain = PLAIN["bag"]
+    deeds = staticmethod(any_deeds)
 
 
 if __name__ == "__main__":

@@ -2,11 +2,11 @@ import unittest
 
 from pastdesk.books import ahead
 from pastdesk.kinds import Kind
-from pastdesk.knots import leaf, put_in
+from pastdesk.knots import leaf
 from pastdesk.sums import Sums
 from plainly import (
-    END, KindChecks, PlainSums, TIMES, at_times, ends_about, every_parting, every_row, mixed, plain_tree,
-    some_partings,
+    END, KindChecks, PlainSums, TIMES, at_times, ends_about, every_parting, every_row, grown, long_sums, mixed,
+    plain_tree, some_partings,
 )
 
 BIG = 10 ** 29 + 7
@@ -16,15 +16,6 @@ SPREAD = [0, 3, 4, 9, 700, END // 2, END - 2, END - 1]
 
 def small_deeds(place):
     return (("add", 2), ("add", -3), ("add", 4), ("many",))
-
-
-def long_row(times):
-    """Adds that rise and fall, below 0 as well, with asked deeds between."""
-    deeds = []
-    for place in range(len(times)):
-        number = place * place * 37 % 41 - 19
-        deeds.append((("add", number), ("add", number + 3), ("peak",), ("add", -number), ("reach", 3))[place % 5])
-    return at_times(deeds, times)
 
 
 class SumsCase(KindChecks, unittest.TestCase):
@@ -90,10 +81,8 @@ class Totals(SumsCase):
 
     def test_trees_of_this_kind(self):
         for times in TIMES.values():
-            row = long_row(times)
-            tree = None
-            for at, deed in mixed(row):
-                tree = put_in(self.kind, tree, at, deed)
+            row = long_sums(times)
+            tree = grown(self.kind, mixed(row))
             self.assertEqual(tree, plain_tree(row, self.plain.total))
 
 
@@ -153,19 +142,19 @@ class Asked(SumsCase):
     def test_long_rows(self):
         asks = [("many",), ("peak",)] + [("reach", x) for x in range(1, 90, 4)]
         for times in TIMES.values():
-            row = long_row(times)
+            row = long_sums(times)
             self.check_row(row, some_partings(row), asks)
 
     def test_what_a_tree_has_ahead(self):
         for name in ("powers of two", "a run with a gap", "three hundred far apart"):
-            row = long_row(TIMES[name])
+            row = long_sums(TIMES[name])
             tree = plain_tree(row, self.plain.total)
             for end in ends_about(TIMES[name] if len(row) < 50 else TIMES[name][::7]):
                 done = [entry for entry in row if entry[0] < end]
                 self.check_knots(ahead(tree, end), done, [("many",), ("peak",), ("reach", 3), ("reach", 30)])
 
     def test_a_list_told_is_the_askers_own(self):
-        row = long_row(TIMES["a run"])
+        row = long_sums(TIMES["a run"])
         for parting in [[]] + some_partings(row):
             self.check_own_stand([plain_tree(part, self.plain.total) for part in parting])
 
