@@ -1,6 +1,9 @@
 """What the tests hold the program against: books, and the plainest way to each answer."""
 
+import re
+
 from pastdesk.bags import Bag
+from pastdesk.errors import Bare, Known, NoDeed, NoName, NoText, NoTime, PastError, Taken, Undone
 from pastdesk.knots import put_in
 from pastdesk.lines import Line
 from pastdesk.names import Names
@@ -132,8 +135,30 @@ def with_deed(book, at, deed):
     return sorted(without(book, at) + [(at, deed)])
 
 
+def nothing_behind(behind):
+    return behind == ()
+
+
+def one_number(behind):
+    return len(behind) == 1 and type(behind[0]) is int
+
+
+def one_name(behind):
+    return len(behind) == 1 and type(behind[0]) is str and re.fullmatch("[a-z]{1,12}", behind[0]) is not None
+
+
 class PlainSums:
-    """The desk of sums, done deed after deed; a row is a list of (at, deed)."""
+    """The desk of sums, done deed after deed; a row is a list of (at, deed).
+
+    known tells for each word of the kind whether what stands behind it makes a deed.
+    """
+
+    known = {
+        "add": one_number,
+        "many": nothing_behind,
+        "peak": nothing_behind,
+        "reach": lambda behind: one_number(behind) and behind[0] >= 1,
+    }
 
     def numbers(self, row):
         """The numbers that have stood, the first 0 ahead of those behind each deed."""
@@ -167,6 +192,13 @@ class PlainSums:
 
 class PlainRow:
     """What a pile, a line and a bag have in common, done deed after deed."""
+
+    known = {
+        "put": one_number,
+        "take": nothing_behind,
+        "look": lambda behind: one_number(behind) and behind[0] >= 0,
+        "many": nothing_behind,
+    }
 
     def done(self, row):
         """The puts (x, at) that stand, in the order of times, how many takes found nothing, and the puts taken."""
@@ -237,6 +269,13 @@ class PlainBag(PlainRow):
 class PlainNames:
     """The desk of names, done deed after deed."""
 
+    known = {
+        "set": lambda behind: one_name(behind[:1]) and one_number(behind[1:]),
+        "drop": one_name,
+        "look": one_name,
+        "many": nothing_behind,
+    }
+
     def done(self, row):
         """What the names stand for, as {name: (x, at)}, and how many drops found nothing."""
         stands = {}
@@ -276,6 +315,10 @@ class PlainNames:
 KINDS = {"sums": Sums(), "pile": Pile(), "line": Line(), "bag": Bag(), "names": Names()}
 
 PLAIN = {"sums": PlainSums(), "pile": PlainPile(), "line": PlainLine(), "bag": PlainBag(), "names": PlainNames()}
+
+
+def plain_knows(plain, deed):
+    return deed[:1] != () and deed[0] in plain.known and plain.known[deed[0]](deed[1:])
 
 
 def is_asked(deed):
@@ -344,6 +387,32 @@ SMALL = {
 }
 
 
+# For each kind deeds to try one after another, the asked ones behind the others.
+DEEDS = {
+    "sums": (
+        ("add", 3), ("add", 1), ("add", 0), ("add", -2), ("add", -1), ("many",), ("peak",), ("reach", 1), ("reach", 4),
+        ("reach", 9),
+    ),
+    "pile": (("put", 5), ("put", -2), ("put", 0), ("take",), ("look", 0), ("look", 1), ("look", 3), ("many",)),
+    "line": (("put", 5), ("put", -2), ("put", 0), ("take",), ("look", 0), ("look", 1), ("look", 3), ("many",)),
+    "bag": (("put", 5), ("put", -2), ("put", 0), ("take",), ("look", 0), ("look", 1), ("look", 3), ("many",)),
+    "names": (
+        ("set", "a", 1), ("set", "a", -4), ("set", "ink", 0), ("drop", "a"), ("drop", "ink"), ("look", "a"),
+        ("look", "ink"), ("look", "b"), ("many",),
+    ),
+}
+
+NO_TIMES = (-1, END, END + 1, -END, 10 ** 299, -(10 ** 299), True, False, None, "", "5", "now")
+
+
+def doable(plain, row):
+    """Those deeds of a row that can be done, those left out that can't."""
+    done = []
+    for entry in row:
+        done = done + ([entry] if plain.can(done + [entry]) else [])
+    return done
+
+
 def every_book(deeds, times):
     """Each book that has, at each of the times, one of the deeds or none."""
     books = [[]]
@@ -369,6 +438,9 @@ NO_WORD = (
     (), (None,), (True,), (False,), (0,), (1,), (-5,), (None, 1), (True, 1), (1, 1), (0, "put"), (1, "take"),
     (None, "many"), (None, None), (1, "add", 1), (10 ** 30,),
 )
+
+
+EVERY_TUPLE = [(word,) + behind for word in WORDS for behind in BEHIND] + list(NO_WORD)
 
 
 def every_row(deeds_at, most):
@@ -413,16 +485,18 @@ def some_partings(row):
 class KindChecks:
     """Checks of a kind against its plain replay, for test cases that have both as self.kind and self.plain."""
 
-    def check_known(self, known_behind):
-        """known_behind: for each word of the kind, whether what stands behind it makes a deed."""
-        for word in WORDS:
-            for behind in BEHIND:
-                known = word in known_behind and known_behind[word](behind)
-                with self.subTest(deed=(word,) + behind):
-                    self.assertIs(self.kind.knows((word,) + behind), known)
-        for deed in NO_WORD:
+    def check_known(self, known, many):
+        """Those tuples are known, and just so many of all that are tried; the others are not."""
+        for deed in known:
             with self.subTest(deed=deed):
-                self.assertIs(self.kind.knows(deed), False)
+                self.assertIs(self.kind.knows(deed), True)
+        found = 0
+        for deed in EVERY_TUPLE:
+            with self.subTest(deed=deed):
+                told = self.kind.knows(deed)
+                self.assertIs(told, plain_knows(self.plain, deed))
+                found = found + told
+        self.assertEqual(found, many)
 
     def check_asked(self, asked, others):
         for deed in asked:
@@ -479,3 +553,170 @@ class KindChecks:
         second.append(5)
         self.assertEqual(self.kind.stand(knots), kept)
         self.assertEqual(first, [])
+
+
+class PlainDesk:
+    """A desk that keeps its book as a list, and does all its deeds anew for each question."""
+
+    def __init__(self, word):
+        self.plain = PLAIN[word]
+        self.book = []
+
+    def rewrite(self, changes):
+        book = self.book
+        for change in changes:
+            book = self.changed(book, *change)
+        first = plain_failing(self.plain, book)
+        if first is not None:
+            raise Undone(first, dict(book)[first])
+        told = plain_turned(self.plain, self.book, book)
+        self.book = book
+        return told
+
+    def changed(self, book, word, at, deed=None):
+        self.check_time(at)
+        stands = at in dict(book)
+        if word == "put" and not plain_knows(self.plain, deed):
+            raise NoDeed()
+        if word == "put" and stands:
+            raise Taken()
+        if word == "out" and not stands:
+            raise Bare()
+        return with_deed(book, at, deed) if word == "put" else without(book, at)
+
+    def check_time(self, at):
+        if type(at) is not int or at < 0 or at >= END:
+            raise NoTime()
+
+    def row_by(self, at):
+        if at is None:
+            return self.book
+        self.check_time(at)
+        return [entry for entry in self.book if entry[0] <= at]
+
+    def told(self, deed, at=None):
+        row = self.row_by(at)
+        if not plain_knows(self.plain, deed) or not is_asked(deed):
+            raise NoDeed()
+        return self.plain.answer(row, deed)
+
+    def source(self, deed, at=None):
+        self.told(deed, at)
+        return self.plain.source(self.row_by(at), deed)
+
+    def stand(self, at=None):
+        return self.plain.stand(self.row_by(at))
+
+    def deeds(self):
+        return list(self.book)
+
+    def answers(self):
+        return plain_answers(self.plain, self.book)
+
+    def tree(self):
+        return plain_tree(self.book, self.plain.total)
+
+
+def outcome(asked, *things):
+    """What is told, or which refusal came, with what it bears."""
+    try:
+        return ("told", asked(*things))
+    except PastError as refusal:
+        return (type(refusal), getattr(refusal, "at", None), getattr(refusal, "deed", None))
+
+
+class Dice:
+    """Throws that look like chance and are the same each time."""
+
+    def __init__(self, seed):
+        self.state = seed
+
+    def under(self, number):
+        self.state = (self.state * 6364136223846793005 + 1442695040888963407) % 2 ** 64
+        return (self.state >> 33) % number
+
+    def one_of(self, things):
+        return things[self.under(len(things))]
+
+
+NUMBER = "(?:0|-?[1-9][0-9]{0,59})"
+NAME = "[a-z]{1,12}"
+DEED = f"(?:(?:put|look|add|reach) {NUMBER}|take|many|peak|(?:look|drop) {NAME}|set {NAME} {NUMBER})"
+CHANGE = f"(?:put {NUMBER} {DEED}|out {NUMBER})"
+ROWS = [
+    re.compile(form) for form in (
+        f"(new) ({NAME}) (sums|pile|line|bag|names)",
+        f"(put) ({NAME}) ({NUMBER} {DEED})",
+        f"(out) ({NAME}) ({NUMBER})",
+        f"(change) ({NAME}) ({CHANGE}(?:; {CHANGE})*)",
+        f"(tell|whence) ({NAME}) ({NUMBER}|now) ({DEED})",
+        f"(stand) ({NAME}) ({NUMBER}|now)",
+        f"(book|answers) ({NAME})",
+    )
+]
+
+
+def plain_deed(text):
+    return tuple(int(part) if re.fullmatch(NUMBER, part) else part for part in text.split())
+
+
+def plain_change(text):
+    word, at, *deed = text.split()
+    return (word, int(at), plain_deed(" ".join(deed))) if word == "put" else (word, int(at))
+
+
+def plain_text(thing):
+    """A thing as a house tells it: None, a number, a text, or a tuple of such things."""
+    if isinstance(thing, tuple):
+        return " ".join(plain_text(part) for part in thing)
+    return "none" if thing is None else str(thing)
+
+
+class PlainHouse:
+    """A house that reads its rows by patterns, and keeps plain desks."""
+
+    def __init__(self):
+        self.desks = {}
+
+    def say(self, row):
+        found = [form.fullmatch(row) for form in ROWS if form.fullmatch(row)]
+        if not found:
+            raise NoText()
+        word, name, *rest = found[0].groups()
+        if word == "new" and name in self.desks:
+            raise Known()
+        if word == "new":
+            self.desks[name] = PlainDesk(rest[0])
+            return "ok"
+        if name not in self.desks:
+            raise NoName()
+        return self.told(self.desks[name], word, rest)
+
+    def told(self, desk, word, rest):
+        if word in ("put", "out"):
+            return self.told(desk, "change", [f"{word} {rest[0]}"])
+        if word == "change":
+            return "; ".join(plain_text(each) for each in desk.rewrite(
+                [plain_change(text) for text in rest[0].split("; ")]
+            )) or "ok"
+        if word in ("book", "answers"):
+            return "; ".join(plain_text(each) for each in (desk.deeds() if word == "book" else desk.answers())) or "-"
+        when = None if rest[0] == "now" else int(rest[0])
+        if word == "stand":
+            stands = desk.stand(when)
+            return " ".join("=".join(map(str, each)) if type(each) is tuple else str(each) for each in stands) or "-"
+        return plain_text((desk.told if word == "tell" else desk.source)(plain_deed(rest[1]), when))
+
+
+SIGNS = "".join(chr(number) for number in range(32, 127) if number != 37)
+
+
+def garbled(text, signs):
+    """The text with one sign left out, put in, set in the place of another, or done twice."""
+    found = []
+    for place in range(len(text) + 1):
+        found = found + [text[:place] + sign + text[place:] for sign in signs]
+    for place in range(len(text)):
+        found = found + [text[:place] + sign + text[place + 1:] for sign in signs]
+        found = found + [text[:place] + text[place + 1:], text[:place] + text[place] + text[place:]]
+    return found

@@ -50,13 +50,7 @@ class NamesCase(KindChecks, unittest.TestCase):
 
 class Deeds(NamesCase):
     def test_what_it_knows(self):
-        names = ("a", "z", "ink", "abcdefghijkl")
-        self.check_known({
-            "set": lambda behind: len(behind) == 2 and behind[0] in names and type(behind[1]) is int,
-            "drop": lambda behind: len(behind) == 1 and behind[0] in names,
-            "look": lambda behind: len(behind) == 1 and behind[0] in names,
-            "many": lambda behind: behind == (),
-        })
+        self.check_known((("set", "ink", 0), ("set", "abcdefghijkl", 1), ("drop", "a"), ("look", "z"), ("many",)), 14)
 
     def test_which_are_asked(self):
         self.check_asked(

@@ -3,7 +3,7 @@ import unittest
 from pastdesk.kinds import Kind
 from pastdesk.rewriting import answers, failing, turned
 from plainly import (
-    END, KINDS, LONG, PLAIN, SMALL, TIMES, every_book, grown, is_asked, mixed, plain_answers, plain_failing,
+    END, KINDS, LONG, PLAIN, SMALL, TIMES, doable, every_book, grown, is_asked, mixed, plain_answers, plain_failing,
     plain_tree, plain_turned, some_book, with_deed, without,
 )
 
@@ -20,10 +20,7 @@ def long_books(word):
     """For each list of times its name, the long row, and those of its deeds that can be done one after another."""
     for name, times in TIMES.items():
         row = LONG[word](times)
-        done = []
-        for entry in row:
-            done = done + ([entry] if PLAIN[word].can(done + [entry]) else [])
-        yield name, row, done
+        yield name, row, doable(PLAIN[word], row)
 
 
 class Failing(unittest.TestCase):

@@ -34,12 +34,7 @@ def puts_and_takes(place):
 
 class Alike(KindChecks):
     def test_what_it_knows(self):
-        self.check_known({
-            "put": lambda behind: len(behind) == 1 and type(behind[0]) is int,
-            "take": lambda behind: behind == (),
-            "look": lambda behind: len(behind) == 1 and type(behind[0]) is int and behind[0] >= 0,
-            "many": lambda behind: behind == (),
-        })
+        self.check_known((("put", 0), ("put", -7), ("take",), ("look", 0), ("look", 10 ** 30), ("many",)), 15)
 
     def test_which_are_asked(self):
         self.check_asked(

@@ -25,12 +25,7 @@ class SumsCase(KindChecks, unittest.TestCase):
 
 class Deeds(SumsCase):
     def test_what_it_knows(self):
-        self.check_known({
-            "add": lambda behind: len(behind) == 1 and type(behind[0]) is int,
-            "many": lambda behind: behind == (),
-            "peak": lambda behind: behind == (),
-            "reach": lambda behind: len(behind) == 1 and type(behind[0]) is int and behind[0] >= 1,
-        })
+        self.check_known((("add", 0), ("add", -7), ("many",), ("peak",), ("reach", 1), ("reach", 10 ** 30)), 14)
 
     def test_which_are_asked(self):
         self.check_asked(
